@@ -14,14 +14,15 @@ func Lines(text string) ([]string, bool) {
 	if len(text) > api.MaxText {
 		return nil, false
 	}
-	lines := cut(text)
+	lines := Cut(text)
 	if len(lines) > api.MaxLines || slices.ContainsFunc(lines, isLong) {
 		return nil, false
 	}
 	return lines, true
 }
 
-func cut(text string) []string {
+// Cut cuts a text of any length into its lines: what is kept may be longer than what may be written.
+func Cut(text string) []string {
 	var lines []string
 	start := 0
 	for i, r := range text {

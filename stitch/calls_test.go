@@ -3,6 +3,7 @@ package stitch_test
 import (
 	"maps"
 	"math"
+	"strconv"
 	"strings"
 	"testing"
 
@@ -43,7 +44,10 @@ func TestP1WorldsOfAnyNumber(t *testing.T) {
 }
 
 func TestP1ErrorsChangeNothing(t *testing.T) {
-	w := full(t)
+	w := histories(t)
+	for _, name := range []string{"d", "e", "f"} {
+		is(t, "P6: Write", w.Write(0, name, ""), api.OK)
+	}
 	for _, repo := range wildNumbers() {
 		for _, a := range wildTexts() {
 			for _, b := range []string{"x\n", "thirteen rune", strings.Repeat("\n", 17), "\xff"} {
@@ -53,8 +57,8 @@ func TestP1ErrorsChangeNothing(t *testing.T) {
 			unchanged(t, w, func() api.Errno { return w.Erase(repo, a) })
 			unchanged(t, w, func() api.Errno { return emptyWithError(t, w.Text, repo, a) })
 			unchanged(t, w, func() api.Errno { return emptyWithError(t, w.Kept, repo, a) })
-			if repo < 0 || repo > 1 {
-				unchanged(t, w, func() api.Errno { return emptyWithError(t, w.Do, repo, a) })
+			for _, command := range []string{a, "show " + a, "record " + a, "record 0001 " + a, "record 0bad " + a} {
+				unchanged(t, w, func() api.Errno { return emptyWithError(t, w.Do, repo, command) })
 			}
 		}
 		names, err := w.Files(repo)
@@ -71,34 +75,56 @@ func TestP1NoWorld(t *testing.T) {
 	is(t, "P1: Erase on no world", w.Erase(0, "a"), api.ErrRepo)
 	_, err := w.Files(0)
 	is(t, "P1: Files on no world", err, api.ErrRepo)
+	_, err = w.Kept(0, "a")
+	is(t, "P1: Kept on no world", err, api.ErrRepo)
+	_, err = w.Do(0, "log")
+	is(t, "P1: Do on no world", err, api.ErrRepo)
 }
 
-// unchanged holds what is there behind a call that was refused against what was there ahead of it.
+// unchanged holds all that can be seen behind a call that was refused against what was seen ahead of it.
 func unchanged(t *testing.T, w *stitch.World, call func() api.Errno) {
 	t.Helper()
-	before := []map[string]string{contents(t, w, 0), contents(t, w, 1)}
+	want := seen(t, w)
 	err := call()
 	if err == api.OK {
 		return
 	}
-	for repo, want := range before {
-		if got := contents(t, w, repo); !maps.Equal(got, want) {
-			t.Errorf("P1: with error %d repository %d is %q, was %q", err, repo, got, want)
-		}
+	if got := seen(t, w); !maps.Equal(got, want) {
+		t.Errorf("P1: with error %d there is %q, was %q", err, got, want)
 	}
 }
 
-func contents(t *testing.T, w *stitch.World, repo int) map[string]string {
+// seen is all that a world tells, by the question.
+func seen(t *testing.T, w *stitch.World) map[string]string {
 	t.Helper()
-	names, err := w.Files(repo)
-	is(t, "P6: Files", err, api.OK)
-	texts := map[string]string{}
-	for _, name := range names {
-		text, err := w.Text(repo, name)
-		is(t, "P6: Text", err, api.OK)
-		texts[name] = text
+	all := map[string]string{}
+	for repo := range 3 {
+		names, err := w.Files(repo)
+		if err == api.ErrRepo {
+			break
+		}
+		is(t, "P6: Files", err, api.OK)
+		place := strconv.Itoa(repo) + " "
+		for _, name := range names {
+			text, err := w.Text(repo, name)
+			is(t, "P6: Text", err, api.OK)
+			all[place+"file "+name] = text
+		}
+		for _, name := range append(names, "a", "b", "c", "d", "e", "f") {
+			if text, err := w.Kept(repo, name); err == api.OK {
+				all[place+"kept "+name] = text
+			}
+		}
+		for _, command := range []string{"new", "log"} {
+			all[place+command], err = w.Do(repo, command)
+			is(t, "P10: "+command, err, api.OK)
+		}
+		for _, id := range strings.Fields(all[place+"log"]) {
+			all[place+id], err = w.Do(repo, "show "+id)
+			is(t, "P10: show", err, api.OK)
+		}
 	}
-	return texts
+	return all
 }
 
 func emptyWithError(t *testing.T, call func(int, string) (string, api.Errno), repo int, text string) api.Errno {

@@ -6,11 +6,13 @@ import (
 
 	"stitch/api"
 	"stitch/parse"
+	"stitch/patch"
 )
 
-// repository is what the user wrote, by names.
+// repository is the patches that were recorded, and what the user wrote, by names. What is kept is made of the patches whenever it is asked for.
 type repository struct {
-	files map[string]file
+	patches []patch.Patch
+	files   map[string]file
 }
 
 type file struct {
@@ -56,4 +58,30 @@ func (r *repository) text(name string) (string, api.Errno) {
 		return "", api.ErrFile
 	}
 	return f.text, api.OK
+}
+
+// file tells what the user has of a name.
+func (r *repository) file(name string) patch.File {
+	f, there := r.files[name]
+	return patch.File{Name: name, There: there, Text: f.text}
+}
+
+func (r *repository) kept() patch.Tree {
+	return patch.Grow(r.patches)
+}
+
+func (r *repository) keptText(name string) (string, api.Errno) {
+	if !parse.IsName(name) {
+		return "", api.ErrName
+	}
+	f := r.kept().File(name)
+	if !f.There {
+		return "", api.ErrFile
+	}
+	return f.Text, api.OK
+}
+
+// place tells where in the list the patch stands; -1, if it is not in this repository.
+func (r *repository) place(id patch.Id) int {
+	return slices.IndexFunc(r.patches, func(p patch.Patch) bool { return p.Id == id })
 }

@@ -4,6 +4,7 @@ package stitch
 import (
 	"stitch/api"
 	"stitch/parse"
+	"stitch/patch"
 )
 
 // Lines cuts a text into its lines (P3).
@@ -27,6 +28,8 @@ func Words(command string) ([]string, api.Errno) {
 // World is some repositories.
 type World struct {
 	repos []repository
+	// given has the id of every patch that was ever recorded, wherever that may be now.
+	given map[patch.Id]struct{}
 }
 
 // New makes a world of n repositories (P5).
@@ -34,7 +37,7 @@ func New(n int) (*World, api.Errno) {
 	if n < 1 || n > api.MaxRepos {
 		return nil, api.ErrCount
 	}
-	w := &World{}
+	w := &World{given: map[patch.Id]struct{}{}}
 	for range n {
 		w.repos = append(w.repos, newRepository())
 	}
@@ -83,7 +86,7 @@ func (w *World) Kept(repo int, name string) (string, api.Errno) {
 	if !w.has(repo) {
 		return "", api.ErrRepo
 	}
-	return "", api.OK
+	return w.repos[repo].keptText(name)
 }
 
 // Do carries a command out (P9 to P17).
@@ -91,5 +94,9 @@ func (w *World) Do(repo int, command string) (string, api.Errno) {
 	if !w.has(repo) {
 		return "", api.ErrRepo
 	}
-	return "", api.OK
+	words, ok := parse.Words(command)
+	if !ok {
+		return "", api.ErrCommand
+	}
+	return w.carryOut(&w.repos[repo], words)
 }
