@@ -1,6 +1,9 @@
 package patch
 
-import "strings"
+import (
+	"slices"
+	"strings"
+)
 
 // latest is the last file that there was of a name, as some patches have left it; the zero value, if there was none. The patch that added it tells it from the other files of this name.
 type latest struct {
@@ -9,10 +12,15 @@ type latest struct {
 	row   row
 }
 
-// change is what a patch does to the file of one name. Both calls take that file as it is right ahead of the patch.
+// change is what a patch does to the file of one name.
 type change interface {
+	// apply and tell take that file as it is right ahead of the patch.
 	apply(ahead latest) latest
 	tell(name string, ahead latest) string
+	// names tells the file and the cells that the change names, each alive or dead as it names it.
+	names() row
+	// kills tells the file and the cells that it kills, dead.
+	kills() row
 }
 
 // addition names the last file of this name, by the patch that added it.
@@ -30,6 +38,14 @@ func (a addition) tell(name string, _ latest) string {
 	return "add " + name + "\n" + tellLines("+", a.row)
 }
 
+func (a addition) names() row {
+	return wholeFile(a.last, false)
+}
+
+func (a addition) kills() row {
+	return nil
+}
+
 type removal struct {
 	file Id
 	row  row
@@ -41,6 +57,14 @@ func (r removal) apply(latest) latest {
 
 func (r removal) tell(name string, _ latest) string {
 	return "remove " + name + "\n" + tellLines("-", r.row)
+}
+
+func (r removal) names() row {
+	return slices.Concat(wholeFile(r.file, true), r.row)
+}
+
+func (r removal) kills() row {
+	return r.names().killed()
 }
 
 type alteration struct {
@@ -63,6 +87,22 @@ func (a alteration) tell(name string, ahead latest) string {
 		told += h.tell(framed)
 	}
 	return told
+}
+
+func (a alteration) names() row {
+	named := wholeFile(a.file, true)
+	for _, h := range a.hunks {
+		named = append(named, h.named...)
+	}
+	return named
+}
+
+func (a alteration) kills() row {
+	var killed row
+	for _, h := range a.hunks {
+		killed = append(killed, h.between().killed()...)
+	}
+	return killed
 }
 
 // tellLines tells the living cells of a row, each behind the mark.

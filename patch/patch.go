@@ -29,6 +29,15 @@ func (p Patch) Tell(ahead Tree) string {
 	return told.String()
 }
 
+// Names tells the names of the files that the patch changes, in their order.
+func (p Patch) Names() []string {
+	var names []string
+	for _, c := range p.changes {
+		names = append(names, c.name)
+	}
+	return names
+}
+
 // Make makes the patch that turns what is kept into these files, each of which differs from it; they come in the order of their names.
 func Make(id Id, kept Tree, files []File) Patch {
 	m := maker{id: id}

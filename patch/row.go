@@ -20,11 +20,16 @@ type spot struct {
 
 type row []spot
 
-// In a framed row the beginning and the end of the file are cells too, so that the hunks there are like all others.
+// In a framed row the beginning and the end of the file are cells too, so that the hunks there are like all others. So is the whole file, where a change names it: it is brought, named and killed as cells are.
 const (
 	beginning = -1
 	end       = -2
+	whole     = -3
 )
+
+func wholeFile(file Id, alive bool) row {
+	return row{spot{cell{by: file, number: whole}, alive}}
+}
 
 func (r row) framed() row {
 	return slices.Concat(edge(beginning), r, edge(end))
@@ -69,4 +74,9 @@ func (r row) dead() row {
 		dead[i].alive = false
 	}
 	return dead
+}
+
+// killed is a new row of those cells that are alive, as they are once they are killed.
+func (r row) killed() row {
+	return slices.DeleteFunc(slices.Clone(r), func(s spot) bool { return !s.alive }).dead()
 }

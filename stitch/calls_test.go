@@ -57,7 +57,7 @@ func TestP1ErrorsChangeNothing(t *testing.T) {
 			unchanged(t, w, func() api.Errno { return w.Erase(repo, a) })
 			unchanged(t, w, func() api.Errno { return emptyWithError(t, w.Text, repo, a) })
 			unchanged(t, w, func() api.Errno { return emptyWithError(t, w.Kept, repo, a) })
-			for _, command := range []string{a, "show " + a, "record " + a, "record 0001 " + a, "record 0bad " + a} {
+			for _, command := range []string{a, "show " + a, "record " + a, "record 0001 " + a, "record 0bad " + a, "unrecord " + a, "obliterate " + a, "swap " + a} {
 				unchanged(t, w, func() api.Errno { return emptyWithError(t, w.Do, repo, command) })
 			}
 		}
@@ -110,12 +110,12 @@ func seen(t *testing.T, w *stitch.World) map[string]string {
 			is(t, "P6: Text", err, api.OK)
 			all[place+"file "+name] = text
 		}
-		for _, name := range append(names, "a", "b", "c", "d", "e", "f") {
+		for _, name := range append(names, "a", "b", "c", "d", "e", "f", "ω") {
 			if text, err := w.Kept(repo, name); err == api.OK {
 				all[place+"kept "+name] = text
 			}
 		}
-		for _, command := range []string{"new", "log"} {
+		for _, command := range []string{"new", "log", "order"} {
 			all[place+command], err = w.Do(repo, command)
 			is(t, "P10: "+command, err, api.OK)
 		}

@@ -13,13 +13,21 @@ func (w *World) carryOut(r *repository, words []string) (string, api.Errno) {
 	case "new":
 		return r.tellNew(), api.OK
 	case "log":
-		return r.log(), api.OK
+		return tellIds(r.patches), api.OK
+	case "order":
+		return tellIds(patch.Order(r.patches)), api.OK
 	case "show":
 		return r.show(patch.IdOf(words[1]))
 	case "revert":
 		r.revert()
 	case "record":
 		return w.record(r, patch.IdOf(words[1]), words[2:])
+	case "unrecord":
+		return r.unrecord(patch.IdOf(words[1]))
+	case "obliterate":
+		return r.obliterate(patch.IdOf(words[1]))
+	case "swap":
+		return r.swap(patch.IdOf(words[1]))
 	}
 	return "", api.OK
 }
@@ -30,9 +38,9 @@ func (r *repository) tellNew() string {
 	return patch.Make(patch.Id{}, kept, r.changed(kept, r.allNames(kept))).Tell(kept)
 }
 
-func (r *repository) log() string {
+func tellIds(patches []patch.Patch) string {
 	var told strings.Builder
-	for _, p := range r.patches {
+	for _, p := range patches {
 		told.WriteString(p.Id.String() + "\n")
 	}
 	return told.String()
@@ -48,8 +56,13 @@ func (r *repository) show(id patch.Id) (string, api.Errno) {
 }
 
 func (r *repository) revert() {
+	r.layKept(r.allNames(r.kept()))
+}
+
+// layKept makes the files of these names be what is kept.
+func (r *repository) layKept(names []string) {
 	kept := r.kept()
-	for _, name := range r.allNames(kept) {
+	for _, name := range names {
 		r.lay(kept.File(name))
 	}
 }

@@ -218,10 +218,16 @@ func does(t *testing.T, w *stitch.World, repo int, command string) {
 // refused: the command answers this error and nothing beside it, and nothing is changed.
 func refused(t *testing.T, w *stitch.World, repo int, command string, want api.Errno) {
 	t.Helper()
+	refusedWith(t, w, repo, command, want, "")
+}
+
+// refusedWith: the command answers this error and this text, and nothing is changed.
+func refusedWith(t *testing.T, w *stitch.World, repo int, command string, want api.Errno, text string) {
+	t.Helper()
 	unchanged(t, w, func() api.Errno {
 		got, err := w.Do(repo, command)
-		if got != "" || err != want {
-			t.Errorf("Do(%d, %q) = %q, %d, want error %d", repo, command, got, err, want)
+		if got != text || err != want {
+			t.Errorf("Do(%d, %q) = %q, %d, want %q and error %d", repo, command, got, err, text, want)
 		}
 		return err
 	})

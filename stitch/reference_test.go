@@ -32,33 +32,45 @@ func common(o, n []string, known map[rest]int) int {
 	return best
 }
 
-func alterTold(before, behind string) string {
-	o, n := linesOf(before), linesOf(behind)
+// gap is what goes and what comes between two lines that go on living: the old lines of the places from up to, but not, to.
+type gap struct {
+	from, to int
+	comes    []string
+}
+
+func gapsOf(o, n []string) []gap {
 	known := map[rest]int{}
-	told, kills, comes, at := "", "", "", 1
+	var gaps []gap
+	now := gap{}
 	i, j := 0, 0
 	for i < len(o) || j < len(n) {
 		switch {
 		case i < len(o) && j < len(n) && o[i] == n[j]:
-			told += hunkTold(at, kills, comes)
-			kills, comes, at = "", "", i+2
+			gaps = append(gaps, now)
 			i, j = i+1, j+1
+			now = gap{from: i, to: i}
 		case i < len(o) && (j == len(n) || common(o[i+1:], n[j:], known) >= common(o[i:], n[j+1:], known)):
-			kills += lineTold("-", o[i])
 			i++
+			now.to = i
 		default:
-			comes += lineTold("+", n[j])
+			now.comes = append(now.comes, n[j])
 			j++
 		}
 	}
-	return told + hunkTold(at, kills, comes)
+	return slices.DeleteFunc(append(gaps, now), func(g gap) bool { return g.from == g.to && len(g.comes) == 0 })
 }
 
-func hunkTold(at int, kills, comes string) string {
-	if kills+comes == "" {
-		return ""
+func alterTold(before, behind string) string {
+	o := linesOf(before)
+	told := ""
+	for _, g := range gapsOf(o, linesOf(behind)) {
+		told += hunkTold(g.from+1, o[g.from:g.to], g.comes)
 	}
-	return "@" + strconv.Itoa(at) + "\n" + kills + comes
+	return told
+}
+
+func hunkTold(at int, kills, comes []string) string {
+	return "@" + strconv.Itoa(at) + "\n" + listTold("-", kills) + listTold("+", comes)
 }
 
 func lineTold(mark, line string) string {
@@ -69,8 +81,12 @@ func lineTold(mark, line string) string {
 }
 
 func linesTold(mark, text string) string {
+	return listTold(mark, linesOf(text))
+}
+
+func listTold(mark string, lines []string) string {
 	told := ""
-	for _, line := range linesOf(text) {
+	for _, line := range lines {
 		told += lineTold(mark, line)
 	}
 	return told

@@ -1,66 +1,81 @@
 package stitch_test
 
 import (
-	"maps"
+	"fmt"
 	"math/rand"
 	"slices"
 	"strings"
 	"testing"
-
-	"stitch/api"
-	"stitch/stitch"
 )
-
-// model is what a repository must be, held as plain texts.
-type model struct {
-	kept, files map[string]string
-	log         string
-	shows       map[string]string
-}
 
 // Long rows of calls in any order, each answer and all that can be seen held against the model.
 func TestP11LongWalks(t *testing.T) {
-	for seed := range 60 {
-		walk(t, rand.New(rand.NewSource(int64(seed))))
+	for seed := range 40 {
+		m := newMirror(t, 2)
+		random := rand.New(rand.NewSource(int64(seed)))
+		for range 150 {
+			repo := random.Intn(2)
+			if random.Intn(2) == 0 {
+				change(m, random, repo, randomText(random))
+			} else {
+				m.do(repo, randomRecord(random))
+			}
+			if random.Intn(24) == 0 {
+				m.do(repo, "revert")
+			}
+		}
 	}
 }
 
-func walk(t *testing.T, random *rand.Rand) {
-	w := world(t, 2)
-	models := []*model{}
-	for range 2 {
-		models = append(models, &model{map[string]string{}, map[string]string{}, "", map[string]string{}})
-	}
-	given := map[string]bool{}
-	for range 150 {
-		repo := random.Intn(2)
-		m := models[repo]
-		name := pick(random, "a", "b", "ω")
-		switch random.Intn(8) {
-		case 0, 1, 2:
-			text := randomText(random)
-			writes(t, w, repo, name, text)
-			m.files[name] = text
-		case 3:
-			_, there := m.files[name]
-			delete(m.files, name)
-			is(t, "P6: Erase", w.Erase(repo, name), firstOf(fault{!there, api.ErrFile}))
-		case 4:
-			if random.Intn(3) == 0 {
-				told(t, w, repo, "revert", "")
-				m.files = maps.Clone(m.kept)
+// The same with patches that move; the texts change by little, so that some patches need one another and some do not.
+func TestP14LongWalks(t *testing.T) {
+	moved := map[string]int{}
+	for seed := range 40 {
+		m := newMirror(t, 2)
+		random := rand.New(rand.NewSource(int64(seed)))
+		for range 100 {
+			repo := random.Intn(2)
+			if random.Intn(2) == 0 {
+				edit(m, random, repo)
+				m.do(repo, randomRecord(random))
+				continue
 			}
-		default:
-			recordBoth(t, w, repo, m, given, random)
-		}
-		for repo, m := range models {
-			sameAs(t, w, repo, m)
+			if random.Intn(4) == 0 {
+				m.do(repo, "revert")
+			}
+			word := pick(random, "swap", "swap", "unrecord", "obliterate")
+			if m.do(repo, word+" "+randomId(m, random)) {
+				moved[word]++
+			}
 		}
 	}
+	for _, word := range []string{"swap", "unrecord", "obliterate"} {
+		if moved[word] < 50 {
+			t.Errorf("the walks have only %d of %s", moved[word], word)
+		}
+	}
+}
+
+// history is a repository 0 of some patches that were made by small steps, with files that are not recorded.
+func history(t *testing.T, seed int) *mirror {
+	m := newMirror(t, 1)
+	random := rand.New(rand.NewSource(int64(seed)))
+	ids := random.Perm(1 << 16)
+	for i := range 8 + random.Intn(8) {
+		edit(m, random, 0)
+		edit(m, random, 0)
+		m.do(0, fmt.Sprintf("record %04x", ids[i]))
+	}
+	edit(m, random, 0)
+	return m
 }
 
 func pick(random *rand.Rand, words ...string) string {
 	return words[random.Intn(len(words))]
+}
+
+func randomName(random *rand.Rand) string {
+	return pick(random, "a", "b", "ω")
 }
 
 func randomText(random *rand.Rand) string {
@@ -71,59 +86,51 @@ func randomText(random *rand.Rand) string {
 	return text + pick(random, "", "", "x", "y")
 }
 
-func recordBoth(t *testing.T, w *stitch.World, repo int, m *model, given map[string]bool, random *rand.Rand) {
-	id := "0" + pick(random, "0", "1", "2", "3", "4", "5") + pick(random, "0", "1", "2", "a") + pick(random, "0", "f")
-	var names []string
+func randomRecord(random *rand.Rand) string {
+	words := []string{"record", fmt.Sprintf("%04x", random.Intn(60)*0x1111&0xff0f)}
 	for range random.Intn(4) {
-		names = append(names, pick(random, "a", "b", "ω"))
+		words = append(words, randomName(random))
 	}
-	command := strings.Join(append([]string{"record", id}, names...), " ")
-	missing := func(name string) bool {
-		_, old := m.kept[name]
-		_, now := m.files[name]
-		return !old && !now
-	}
-	noFile := slices.ContainsFunc(names, missing)
-	if len(names) == 0 {
-		names = namesOf(m.kept, m.files)
-	}
-	want := patchTold(m.kept, m.files, names)
-	err := firstOf(
-		fault{given[id], api.ErrTwice}, fault{len(given) == 40, api.ErrFull}, fault{noFile, api.ErrFile}, fault{want == "", api.ErrClean})
-	if err != api.OK {
-		refused(t, w, repo, command, err)
-		return
-	}
-	told(t, w, repo, command, want)
-	given[id] = true
-	m.log += id + "\n"
-	m.shows[id] = id + "\n" + want
-	for _, name := range names {
-		delete(m.kept, name)
-		if text, now := m.files[name]; now {
-			m.kept[name] = text
+	return strings.Join(words, " ")
+}
+
+// randomId is an id that was given, in whichever repository, or now and then one that was not.
+func randomId(m *mirror, random *rand.Rand) string {
+	ids := []string{"eeee"}
+	for _, r := range m.repos {
+		for _, p := range r.patches {
+			ids = append(ids, p.id)
 		}
+	}
+	return pick(random, ids...)
+}
+
+func change(m *mirror, random *rand.Rand, repo int, text string) {
+	if name := randomName(random); random.Intn(4) == 0 {
+		m.erase(repo, name)
+	} else {
+		m.write(repo, name, text)
 	}
 }
 
-func sameAs(t *testing.T, w *stitch.World, repo int, m *model) {
-	t.Helper()
-	filesAre(t, w, repo, slices.Sorted(maps.Keys(m.files))...)
-	for _, name := range []string{"a", "b", "ω"} {
-		if text, there := m.files[name]; there {
-			textIs(t, w, repo, name, text)
-		} else {
-			textRefused(t, w, repo, name, api.ErrFile)
-		}
-		if text, there := m.kept[name]; there {
-			keptIs(t, w, repo, name, text)
-		} else {
-			keptNot(t, w, repo, name, api.ErrFile)
-		}
+// edit changes a file by a line or two; now and then it takes the file away.
+func edit(m *mirror, random *rand.Rand, repo int) {
+	name := randomName(random)
+	text, there := m.repos[repo].files[name]
+	if there && random.Intn(10) == 0 {
+		m.erase(repo, name)
+		return
 	}
-	told(t, w, repo, "new", patchTold(m.kept, m.files, namesOf(m.kept, m.files)))
-	told(t, w, repo, "log", m.log)
-	for id, want := range m.shows {
-		told(t, w, repo, "show "+id, want)
+	lines := linesOf(text)
+	if !there {
+		lines = linesOf(randomText(random))
 	}
+	from := random.Intn(len(lines) + 1)
+	to := min(from+random.Intn(2), len(lines))
+	comes := []string{}
+	for range random.Intn(3) {
+		comes = append(comes, pick(random, "x\n", "y\n", "z\n", "\n"))
+	}
+	lines = slices.Replace(lines, from, to, comes...)
+	m.write(repo, name, strings.Join(lines[:min(len(lines), 16)], ""))
 }
