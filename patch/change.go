@@ -14,7 +14,8 @@ type latest struct {
 
 // change is what a patch does to the file of one name.
 type change interface {
-	// apply and tell take that file as it is right ahead of the patch.
+	// fits, apply and tell take that file as it is right ahead of the patch; the change must fit it to be applied or told.
+	fits(ahead latest) bool
 	apply(ahead latest) latest
 	tell(name string, ahead latest) string
 	// names tells the file and the cells that the change names, each alive or dead as it names it.

@@ -20,3 +20,17 @@ func (c namedChange) needs(other Patch) bool {
 func leansOn(named row, by Id, killed row) bool {
 	return slices.ContainsFunc(named, func(s spot) bool { return s.by == by || slices.Contains(killed, s) })
 }
+
+// LastWithNeeds tells the last of the patches, and of those ahead of it the ones that it needs, and that these need, and so on, in their order.
+func LastWithNeeds(patches []Patch) []Patch {
+	var wanted []Patch
+	// A patch stands behind all that it needs, so one way back through the list meets them all.
+	for i, p := range slices.Backward(patches) {
+		needsIt := func(q Patch) bool { return q.Needs(p) }
+		if i == len(patches)-1 || slices.ContainsFunc(wanted, needsIt) {
+			wanted = append(wanted, p)
+		}
+	}
+	slices.Reverse(wanted)
+	return wanted
+}

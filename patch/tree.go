@@ -21,11 +21,16 @@ type Tree struct {
 func Grow(patches []Patch) Tree {
 	t := Tree{files: map[string]latest{}}
 	for _, p := range patches {
-		for _, c := range p.changes {
-			t.files[c.name] = c.apply(t.files[c.name])
-		}
+		t.add(p)
 	}
 	return t
+}
+
+// add makes what one more patch makes of it.
+func (t Tree) add(p Patch) {
+	for _, c := range p.changes {
+		t.files[c.name] = c.apply(t.files[c.name])
+	}
 }
 
 // File tells what is kept of a name.

@@ -28,6 +28,8 @@ func (w *World) carryOut(r *repository, words []string) (string, api.Errno) {
 		return r.obliterate(patch.IdOf(words[1]))
 	case "swap":
 		return r.swap(patch.IdOf(words[1]))
+	case "pull":
+		return w.pull(r, words[1], words[2:])
 	}
 	return "", api.OK
 }

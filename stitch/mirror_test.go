@@ -67,6 +67,8 @@ func (m *mirror) wanted(r *modelRepo, words []string) (string, api.Errno) {
 		return m.obliterate(r, words[1])
 	case "swap":
 		return r.swap(words[1])
+	case "pull":
+		return m.pull(r, words[1], words[2:])
 	case "revert":
 		r.files = m.kept(r)
 		return "", api.OK
@@ -155,18 +157,77 @@ func (m *mirror) obliterate(r *modelRepo, id string) (string, api.Errno) {
 	if needing := r.needing(p); needing != "" {
 		return needing, api.ErrNeeded
 	}
-	if dirty := m.differ(r, slices.Collect(maps.Keys(p.changes))); len(dirty) > 0 {
+	if dirty := m.differ(r, p.names()); len(dirty) > 0 {
 		return dirty[0], api.ErrDirty
 	}
 	r.patches = slices.Delete(r.patches, place, place+1)
+	m.lay(r, p.names())
+	return "", api.OK
+}
+
+func (p modelPatch) names() []string {
+	return slices.Collect(maps.Keys(p.changes))
+}
+
+// lay makes the files of these names be what is kept.
+func (m *mirror) lay(r *modelRepo, names []string) {
 	kept := m.kept(r)
-	for name := range p.changes {
+	for _, name := range names {
 		delete(r.files, name)
 		if text, old := kept[name]; old {
 			r.files[name] = text
 		}
 	}
-	return "", api.OK
+}
+
+func (m *mirror) pull(r *modelRepo, from string, ids []string) (string, api.Errno) {
+	other := int(from[0] - '0')
+	if other >= len(m.repos) {
+		return "", api.ErrRepo
+	}
+	wanted := m.repos[other].patches
+	if len(ids) > 0 {
+		if m.repos[other].place(ids[0]) < 0 {
+			return "", api.ErrId
+		}
+		wanted = m.repos[other].withNeeds(ids[0])
+	}
+	files := made(m.t, r.patches)
+	var names []string
+	coming := &modelRepo{}
+	for _, p := range wanted {
+		if r.place(p.id) >= 0 {
+			continue
+		}
+		if !p.fits(files) {
+			return p.id, api.ErrClash
+		}
+		p.apply(files)
+		names = append(names, p.names()...)
+		coming.patches = append(coming.patches, p)
+	}
+	if dirty := m.differ(r, names); len(dirty) > 0 {
+		return dirty[0], api.ErrDirty
+	}
+	r.patches = append(r.patches, coming.patches...)
+	m.lay(r, names)
+	return coming.log(), api.OK
+}
+
+// withNeeds asks all patches again and again for one more that is needed, until there is none.
+func (r *modelRepo) withNeeds(id string) []modelPatch {
+	ids := []string{id}
+	for before := 0; before < len(ids); {
+		before = len(ids)
+		for _, p := range r.patches {
+			for _, q := range r.patches {
+				if slices.Contains(ids, q.id) && q.needs(p) && !slices.Contains(ids, p.id) {
+					ids = append(ids, p.id)
+				}
+			}
+		}
+	}
+	return slices.DeleteFunc(slices.Clone(r.patches), func(p modelPatch) bool { return !slices.Contains(ids, p.id) })
 }
 
 func (r *modelRepo) swap(id string) (string, api.Errno) {

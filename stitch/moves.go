@@ -20,8 +20,8 @@ func (r *repository) obliterate(id patch.Id) (string, api.Errno) {
 		return told, err
 	}
 	names := r.patches[r.place(id)].Names()
-	if dirty := r.changed(r.kept(), names); len(dirty) > 0 {
-		return dirty[0].Name, api.ErrDirty
+	if told, err := r.mayLay(names); err != api.OK {
+		return told, err
 	}
 	r.drop(id)
 	r.layKept(names)
@@ -38,6 +38,14 @@ func (r *repository) mayLeave(id patch.Id) (string, api.Errno) {
 		if other.Needs(r.patches[place]) {
 			return other.Id.String(), api.ErrNeeded
 		}
+	}
+	return "", api.OK
+}
+
+// mayLay answers OK, if the files of these names are what is kept, so that nothing of the user's is lost when they are laid anew; else the error and the first name that differs.
+func (r *repository) mayLay(names []string) (string, api.Errno) {
+	if dirty := r.changed(r.kept(), names); len(dirty) > 0 {
+		return dirty[0].Name, api.ErrDirty
 	}
 	return "", api.OK
 }

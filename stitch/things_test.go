@@ -183,14 +183,27 @@ func made(t *testing.T, patches []modelPatch) map[string]modelFile {
 	t.Helper()
 	files := map[string]modelFile{}
 	for _, p := range patches {
-		for name, c := range p.changes {
-			if !c.fits(files[name]) {
-				t.Fatalf("the patch %s does not fit where it stands", p.id)
-			}
-			files[name] = c.apply(files[name])
+		if !p.fits(files) {
+			t.Fatalf("the patch %s does not fit where it stands", p.id)
 		}
+		p.apply(files)
 	}
 	return files
+}
+
+func (p modelPatch) fits(files map[string]modelFile) bool {
+	for name, c := range p.changes {
+		if !c.fits(files[name]) {
+			return false
+		}
+	}
+	return true
+}
+
+func (p modelPatch) apply(files map[string]modelFile) {
+	for name, c := range p.changes {
+		files[name] = c.apply(files[name])
+	}
 }
 
 func (p modelPatch) tell(ahead map[string]modelFile) string {

@@ -2,10 +2,13 @@ package stitch_test
 
 import (
 	"fmt"
+	"maps"
 	"math/rand"
 	"slices"
 	"strings"
 	"testing"
+
+	"stitch/api"
 )
 
 // Long rows of calls in any order, each answer and all that can be seen held against the model.
@@ -56,9 +59,71 @@ func TestP14LongWalks(t *testing.T) {
 	}
 }
 
-// history is a repository 0 of some patches that were made by small steps, with files that are not recorded.
+// The same with patches that go from one repository to another.
+func TestP16LongWalks(t *testing.T) {
+	answers := map[api.Errno]int{}
+	taken := 0
+	for seed := range 60 {
+		m := newMirror(t, 3)
+		random := rand.New(rand.NewSource(int64(seed)))
+		m.write(0, "a", "1\n2\n3\n4\n5\n6\n7\n")
+		m.do(0, "record ffff")
+		m.do(1, "pull 0")
+		m.do(2, "pull 0")
+		for range 60 {
+			repo := random.Intn(3)
+			if random.Intn(4) == 0 {
+				edit(m, random, repo)
+			}
+			if random.Intn(2) == 0 {
+				m.do(repo, randomRecord(random))
+			}
+			if random.Intn(2) == 0 {
+				m.do(repo, "revert")
+			}
+			if random.Intn(3) == 0 {
+				m.do(repo, pick(random, "swap", "unrecord", "obliterate")+" "+randomId(m, random))
+			}
+			command := randomPull(m, random)
+			answer, err := m.wanted(m.copied(repo), strings.Fields(command))
+			answers[err]++
+			if err == api.OK {
+				taken += len(answer) / 5
+			}
+			m.do(repo, command)
+		}
+	}
+	for _, err := range []api.Errno{api.OK, api.ErrId, api.ErrClash, api.ErrDirty} {
+		if answers[err] < 50 {
+			t.Errorf("the walks have only %d pulls that answer %d", answers[err], err)
+		}
+	}
+	if taken < 200 {
+		t.Errorf("only %d patches were taken", taken)
+	}
+}
+
+// copied is a repository of the model to try a command on.
+func (m *mirror) copied(repo int) *modelRepo {
+	r := m.repos[repo]
+	return &modelRepo{slices.Clone(r.patches), maps.Clone(r.files)}
+}
+
+func randomPull(m *mirror, random *rand.Rand) string {
+	command := "pull " + pick(random, "0", "1", "2")
+	if random.Intn(2) == 0 {
+		return command
+	}
+	return command + " " + randomId(m, random)
+}
+
 func history(t *testing.T, seed int) *mirror {
-	m := newMirror(t, 1)
+	return historyOf(t, seed, 1)
+}
+
+// historyOf is some repositories, of which 0 has some patches that were made by small steps, and files that are not recorded.
+func historyOf(t *testing.T, seed, repos int) *mirror {
+	m := newMirror(t, repos)
 	random := rand.New(rand.NewSource(int64(seed)))
 	ids := random.Perm(1 << 16)
 	for i := range 8 + random.Intn(8) {
